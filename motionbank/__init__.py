@@ -1,0 +1,1 @@
+"""Motions of a debating tournament."""
