@@ -1,4 +1,4 @@
-"""A second house, written from the document apart from the package, to hold its answers against."""
+"""A second house in other code, with the same reading of the document, to hold the package's answers against."""
 
 import re
 
