@@ -1,4 +1,4 @@
-"""The bank: the rules, the motions, the rounds and the minute of the world."""
+"""The bank: the rules, the motions, the rounds, their rooms and the minute of the world."""
 
 from motionbank.rules import release_of
 
@@ -17,6 +17,8 @@ class Bank:
         self.motions = []
         # Each round is the list of its motions' numbers.
         self.rounds = []
+        # By (round, room). Only a released round has rooms, and it stays as it is: none outlives its round.
+        self.rooms = {}
         self.minute = 0
 
 
@@ -41,6 +43,13 @@ def offered_between(bank, first, last):
     for stage in range(max(first, 1), min(last, len(bank.rounds)) + 1):
         offered.extend(bank.rounds[stage - 1])
     return offered
+
+
+def round_with(bank, number):
+    for stage in range(1, len(bank.rounds) + 1):
+        if number in bank.rounds[stage - 1]:
+            return stage
+    return 0
 
 
 def topics_of(bank, numbers):

@@ -1,17 +1,10 @@
-"""The calls on a bank: each answers a list of numbers, a refusal its number alone."""
+"""The calls on rules, motions, rounds and time: each answers a list of numbers, a refusal its number alone."""
 
 from motionbank.bank import Motion, has_motion, has_round, is_released, motion_of, released_by, struck_count
 from motionbank.choosing import chosen, substitutes
-from motionbank.rules import GREATEST_LEVEL, NO_FAULT, read_rules, setting, shown_lines
+from motionbank.replies import ALREADY_BEGUN, FULL, MISSING, NOT_POSSIBLE, OUT_OF_RANGE, TOO_EARLY, TOO_LATE, as_row
+from motionbank.rules import GREATEST_LEVEL, NO_FAULT, read_rules, release_of, setting, shown_lines
 from motionbank.words import are_bytes, is_topic
-
-OUT_OF_RANGE = -1
-ALREADY_BEGUN = -3
-TOO_LATE = -4
-TOO_EARLY = -4
-MISSING = -6
-NOT_POSSIBLE = -7
-FULL = -9
 
 MOST_RULES_BYTES = 1500
 MOST_TEXT_BYTES = 100
@@ -20,10 +13,6 @@ LATEST_NOW = 200000
 GREATEST_ZONE = 900
 EARLIEST_CLOCK = -1000
 LATEST_CLOCK = 201000
-
-
-def as_row(numbers):
-    return [len(numbers)] + numbers
 
 
 def rules_answer(bank, text):
@@ -133,3 +122,17 @@ def see_answer(bank, zone, minute):
     for stage in stages:
         answer.extend(as_row([stage] + bank.rounds[stage - 1]))
     return answer
+
+
+def read_answer(bank, stage, place, zone, minute):
+    if not has_round(bank, stage):
+        return [MISSING]
+    if not is_clock(zone, minute):
+        return [OUT_OF_RANGE]
+    if not release_of(bank.told, stage) <= minute - zone <= bank.minute:
+        return [TOO_EARLY]
+    numbers = bank.rounds[stage - 1]
+    if not 0 <= place < len(numbers):
+        return [MISSING]
+    motion = motion_of(bank, numbers[place])
+    return [numbers[place], motion.level] + as_row(motion.topic) + as_row(motion.text)

@@ -1,8 +1,10 @@
 """The house: calls in one list of whole numbers, and their answers in another."""
 
+from motionbank.asking import counts_answer, lot_answer, may_answer, offered_answer, told_answer
 from motionbank.bank import Bank
-from motionbank.calls import appeal_answer, choose_answer, motion_answer, now_answer, restore_answer
+from motionbank.calls import appeal_answer, choose_answer, motion_answer, now_answer, read_answer, restore_answer
 from motionbank.calls import rules_answer, see_answer, shown_answer, strike_answer, undo_answer
+from motionbank.roomcalls import debate_answer, even_answer, order_answer, result_answer, ways_answer
 
 CLEAR = 0
 RULES = 1
@@ -15,10 +17,21 @@ APPEAL = 7
 UNDO = 8
 NOW = 9
 SEE = 10
+READ = 11
+ORDER = 12
+DEBATE = 13
+RESULT = 14
+OFFERED = 15
+MAY = 16
+TOLD = 17
+EVEN = 18
+WAYS = 19
+LOT = 20
+COUNTS = 21
 
 # By a call's number: how many whole numbers stand behind it, and how many rows behind these.
-NUMBER_COUNTS = (0, 0, 0, 1, 1, 1, 0, 2, 0, 1, 2)
-ROW_COUNTS = (0, 1, 0, 2, 0, 0, 0, 0, 0, 0, 0)
+NUMBER_COUNTS = (0, 0, 0, 1, 1, 1, 0, 2, 0, 1, 2, 4, 3, 2, 2, 1, 1, 1, 1, 2, 1, 0)
+ROW_COUNTS = (0, 1, 0, 2, 0, 0, 0, 0, 0, 0, 0, 0, 1, 0, 1, 0, 0, 0, 0, 0, 0, 0)
 
 
 class Call:
@@ -41,7 +54,9 @@ def read_call(calls, start):
     return Call(kind, numbers, rows, place)
 
 
-def answer_of(bank, call):
+# A call is sought in three steps, as one function for all of them would be too long.
+
+def answer_on_bank(bank, call):
     numbers = call.numbers
     if call.kind == RULES:
         return rules_answer(bank, call.rows[0])
@@ -63,6 +78,38 @@ def answer_of(bank, call):
         return now_answer(bank, numbers[0])
     if call.kind == SEE:
         return see_answer(bank, numbers[0], numbers[1])
+    if call.kind == READ:
+        return read_answer(bank, numbers[0], numbers[1], numbers[2], numbers[3])
+    return answer_on_rooms(bank, call)
+
+
+def answer_on_rooms(bank, call):
+    numbers = call.numbers
+    if call.kind == ORDER:
+        return order_answer(bank, numbers[0], numbers[1], numbers[2], call.rows[0])
+    if call.kind == DEBATE:
+        return debate_answer(bank, numbers[0], numbers[1])
+    if call.kind == RESULT:
+        return result_answer(bank, numbers[0], numbers[1], call.rows[0])
+    if call.kind == EVEN:
+        return even_answer(bank, numbers[0])
+    if call.kind == WAYS:
+        return ways_answer(bank, numbers[0], numbers[1])
+    return answer_when_asked(bank, call)
+
+
+def answer_when_asked(bank, call):
+    numbers = call.numbers
+    if call.kind == OFFERED:
+        return offered_answer(bank, numbers[0])
+    if call.kind == MAY:
+        return may_answer(bank, numbers[0])
+    if call.kind == TOLD:
+        return told_answer(bank, numbers[0])
+    if call.kind == LOT:
+        return lot_answer(bank, numbers[0])
+    if call.kind == COUNTS:
+        return counts_answer(bank)
     return [0]
 
 
@@ -74,7 +121,7 @@ def answers(calls):
         call = read_call(calls, place)
         if call.kind == CLEAR:
             bank = Bank()
-        answer = answer_of(bank, call)
+        answer = answer_on_bank(bank, call)
         given.append(len(answer))
         given.extend(answer)
         place = call.end

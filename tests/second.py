@@ -1,5 +1,7 @@
 """A second house in other code, with the same reading of the document, to hold the package's answers against."""
 
+import collections
+import itertools
 import re
 
 SETTINGS = {"ROUNDS": ("[1-9]", 5), "OFFER": ("[1-5]", 3), "GAP": ("[0-9]", 1), "UNLIKE": ("[01]", 1),
@@ -24,6 +26,7 @@ def rest_is_as_told(name, rest):
 class Second:
     def __init__(self):
         self.lines, self.motions, self.rounds, self.now, self.out = [], [], [], 0, set()
+        self.orders, self.results = {}, {}
 
     def value(self, name):
         return next((int(line[1]) for line in self.lines if line[0] == name), SETTINGS[name][1])
@@ -70,7 +73,7 @@ class Second:
             return [-1]
         if len(self.motions) >= 40 or self.rounds:
             return [-9 if len(self.motions) >= 40 else -4]
-        self.motions.append((level, bytes(topic).decode("ascii")))
+        self.motions.append((level, bytes(topic).decode("ascii"), text))
         return [len(self.motions)]
 
     def strike(self, number):
@@ -160,3 +163,131 @@ class Second:
             return [-4]
         seen = [[at] + offered for at, offered in enumerate(self.rounds, 1) if self.release(at) + zone <= minute]
         return [len(seen)] + [number for numbers in seen for number in [len(numbers)] + numbers]
+
+    def read(self, stage, place, zone, minute):
+        if stage not in range(1, len(self.rounds) + 1):
+            return [-6]
+        if abs(zone) > 900 or minute < -1000 or minute > 201000:
+            return [-1]
+        if minute > self.now + zone or minute < self.release(stage) + zone:
+            return [-4]
+        if place not in range(len(self.rounds[stage - 1])):
+            return [-6]
+        number = self.rounds[stage - 1][place]
+        level, topic, text = self.motions[number - 1]
+        return [number, level, len(topic), *topic.encode("ascii"), len(text), *text]
+
+    def rooms(self, stage):
+        return {room for at, room, side in self.orders if at == stage}
+
+    def order(self, stage, room, side, numbers):
+        if stage not in range(1, len(self.rounds) + 1):
+            return [-6]
+        if room not in range(100) or side not in (0, 1) or len(numbers) > 5 or set(numbers) - set(range(100)):
+            return [-1]
+        if self.release(stage) > self.now:
+            return [-4]
+        if tuple(numbers) not in itertools.permutations(self.rounds[stage - 1]):
+            return [-7]
+        if len(self.rooms(stage) | {room}) > 30:
+            return [-9]
+        if (stage, room) in self.results:
+            return [-5]
+        self.orders[stage, room, side] = list(numbers)
+        return [0 if self.lacks(stage, room) else self.debated(stage, room)[0]]
+
+    def lacks(self, stage, room):
+        """-6 if there's no such room, -5 if an order lacks, else 0."""
+        there = [side for side in (0, 1) if (stage, room, side) in self.orders]
+        return (-6, -5, 0)[len(there)]
+
+    def debated(self, stage, room):
+        """The motion that's debated, the coin, those left."""
+        first, second = (self.orders[stage, room, side] for side in (0, 1))
+        coin = (((100 * self.value("SEED") + 10000000 * stage + room) * 1103515245 + 12345) & 0x7FFFFFFF) >> 16 & 1
+        left = first[:max(len(first) - 1, 1)]
+        if len(left) > 1 and second[-1] in left:
+            left.remove(second[-1])
+        best = sorted(left, key=(first, second)[coin].index)
+        best.sort(key=lambda number: max(first.index(number), second.index(number)))
+        best.sort(key=lambda number: first.index(number) + second.index(number))
+        return best[0], coin, left
+
+    def debate(self, stage, room):
+        if self.lacks(stage, room):
+            return [self.lacks(stage, room)]
+        motion, coin, left = self.debated(stage, room)
+        return [motion, coin, len(left)] + left
+
+    def result(self, stage, room, places):
+        if self.lacks(stage, room):
+            return [self.lacks(stage, room)]
+        if tuple(places) not in itertools.permutations(range(self.value("SIZE"))):
+            return [-1]
+        self.results[stage, room] = half(places)
+        return [half(places)]
+
+    def offered(self, stage):
+        if stage not in range(1, len(self.rounds) + 1):
+            return [-6]
+        numbers = self.rounds[stage - 1]
+        return [len(numbers), self.release(stage), len(self.rooms(stage)), len(numbers)] + numbers
+
+    def may_be(self, stage):
+        if stage not in range(1, len(self.rounds) + 2):
+            return [-6]
+        numbers = [number for number in self.lot(stage) if self.may(number, stage)]
+        return [len(numbers), len(numbers)] + numbers
+
+    def told(self, number):
+        if number not in range(1, len(self.motions) + 1):
+            return [-6]
+        level, topic, text = self.motions[number - 1]
+        stage = next((at for at, numbers in enumerate(self.rounds, 1) if number in numbers), 0)
+        return [level, int(number in self.out), stage, len(topic), *topic.encode("ascii")]
+
+    def even(self, number):
+        if number not in range(1, len(self.motions) + 1):
+            return [-6]
+        points = [got for key, got in self.results.items() if self.debated(*key)[0] == number]
+        size = self.value("SIZE")
+        every = chances(size, len(points))
+        rest = len(points) * (size * (size - 1) // 2) - sum(points)
+        return [len(points), sum(points), rest] + decimal(further(every, abs(sum(points) - rest))) + decimal(sum(every))
+
+    def ways(self, rooms, points):
+        size = self.value("SIZE")
+        if rooms not in range(41) or points not in range(40 * (size * (size - 1) // 2) + 1):
+            return [-1]
+        every = chances(size, rooms)
+        far = abs(points - (len(every) - 1 - points))
+        just = every[points] if points < len(every) else 0
+        return [far] + decimal(just) + decimal(further(every, far)) + decimal(sum(every))
+
+    def drawn(self, stage):
+        return [len(self.motions)] * 2 + self.lot(stage) if 1 <= stage <= 9 else [-1]
+
+    def counts(self):
+        rooms = {key[:2] for key in self.orders}
+        return [len(self.motions), len(self.out), len(self.rounds), self.now, len(rooms)]
+
+
+def half(places):
+    """The points of the teams at the places of the first half."""
+    got = dict(zip(places, reversed(range(len(places)))))
+    return sum(got[place] for place in range(len(places) // 2))
+
+
+def chances(size, rooms):
+    """By the first half's points the ways, out of one great number's digits to the base 2^200."""
+    one = collections.Counter(half(places) for places in itertools.permutations(range(size)))
+    packed = sum(count << 200 * points for points, count in one.items()) ** rooms
+    return [packed >> 200 * points & 2 ** 200 - 1 for points in range(rooms * size * (size - 1) // 2 + 1)]
+
+
+def further(every, far):
+    return sum(count for points, count in enumerate(every) if abs(2 * points - len(every) + 1) >= far)
+
+
+def decimal(number):
+    return [len(str(number)), *str(number).encode("ascii")]

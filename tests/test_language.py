@@ -157,6 +157,17 @@ class Form(unittest.TestCase):
             if isinstance(node, ast.Compare) and any(isinstance(sign, (ast.Is, ast.IsNot)) for sign in node.ops):
                 self.assertIsInstance(node.comparators[0], ast.Constant, place)
 
+    def test_values_are_given_through_a_local_name(self):
+        for name, tree in trees():
+            for function in functions(tree):
+                for node in ast.walk(function):
+                    if isinstance(node, (ast.Attribute, ast.Subscript)) and isinstance(node.ctx, ast.Store):
+                        root = node
+                        while isinstance(root, (ast.Attribute, ast.Subscript)):
+                            root = root.value
+                        self.assertIsInstance(root, ast.Name, (name, node.lineno))
+                        self.assertIn(root.id, bound_within(function), (name, node.lineno))
+
     def test_calls_by_themselves(self):
         for name, tree in trees():
             docstring = tree.body[0]

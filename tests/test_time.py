@@ -1,6 +1,7 @@
-"""The calls now and see: releases, clocks and zones."""
+"""The calls now, see and read: releases, clocks and zones."""
 
-from tests.support import (HUGE, HouseCase, ask, appeal, choose, last, motion, now, rules, see, topics, undo)
+from tests.support import (HUGE, HouseCase, ask, appeal, choose, clear, last, lot, motion, now, read, row, rules, see, strike, topics,
+                           undo)
 
 # Rounds 1 to 3 of the motions 1 to 3, each known by its level.
 THREE = [rules("OFFER 1\nGAP 0\nLEVELS 1 1 1\nLEVELS 2 2 2\nLEVELS 3 3 3\nRELEASE 1 60\nRELEASE 3 30"), motion(1), motion(2),
@@ -115,3 +116,110 @@ class See(HouseCase):
                   motion(4, "C"), choose(), now(60)]
         self.check(before + [see(60, 119), see(60, 120)], [0], [1, 3, 1, 3, 2])
         self.check(before[:-1] + [now(59), see(60, 119), see(60, 120)], [0], [-4])
+
+
+# Round 1 of the motions 3 5 2, released at 60; now is 60.
+TEXTS = [motion(level, topic, text) for level, topic, text in (
+    (1, "A", "one"), (2, "BB", "two and more"), (3, "CCC", ""), (4, "D", "four"), (5, "EIGHTEEN", [0, 10, 255]),
+    (1, "F", "x"))]
+LATE = [rules("OFFER 3\nRELEASE 1 60")] + TEXTS + [choose()]
+OPEN = LATE + [now(60)]
+THIRD = [3, 3] + row("CCC") + row("")
+FIFTH = [5, 5] + row("EIGHTEEN") + row([0, 10, 255])
+SECOND = [2, 2] + row("BB") + row("two and more")
+
+
+class Read(HouseCase):
+    def test_the_motion_its_level_topic_and_text(self):
+        self.check(OPEN + [read(1, 0, 0, 60), read(1, 1, 0, 60), read(1, 2, 0, 60)], THIRD, FIFTH, SECOND)
+
+    def test_the_longest_text(self):
+        text = [number % 256 for number in range(200, 300)]
+        before = [rules("OFFER 1"), motion(2, "ABCDEFGH", text), choose()]
+        self.check(before + [read(1, 0, 0, 0)], [1, 2, 8] + list(range(65, 73)) + [100] + text)
+
+    def test_behind_an_appeal_and_though_struck_out(self):
+        # By the lot of round 1 motion 4 is next.
+        self.check(LATE + [appeal(1, 5), now(60), read(1, 1, 0, 60)], [4, 4] + row("D") + row("four"))
+        self.check(OPEN + [strike(3), read(1, 0, 0, 60)], THIRD)
+
+    def test_of_each_round(self):
+        self.check(THREE + [now(60), read(1, 0, 0, 60), read(2, 0, 0, 0), read(3, 0, 0, 30)],
+                   [1, 1, 1, 65, 0], [2, 2, 1, 65, 0], [3, 3, 1, 65, 0])
+        self.check(THREE + [now(60), read(1, 0, 0, 59), read(3, 0, 0, 29), read(3, 0, 0, 59)], [-4], [-4], [3, 3, 1, 65, 0])
+
+    def test_no_such_round(self):
+        for stage in (0, 2, -1, 9, HUGE, -HUGE):
+            self.check_refused(OPEN, read(stage, 0, 0, 60), -6)
+        self.check_refused([], read(1, 0, 0, 0), -6)
+        self.check_refused(OPEN[:7], read(1, 0, 0, 0), -6)
+        self.check(OPEN + [clear(), read(1, 0, 0, 0)], [-6])
+
+    def test_no_such_place(self):
+        for place in (3, 4, -1, -2, -3, -4, HUGE, -HUGE):
+            self.check_refused(OPEN, read(1, place, 0, 60), -6)
+        self.check([rules("OFFER 1"), motion(), choose(), read(1, 0, 0, 0), read(1, 1, 0, 0)], [1, 1, 1, 65, 0], [-6])
+
+    def test_ahead_of_the_release(self):
+        for minute in (59, 0, -1, -1000):
+            self.check_refused(OPEN, read(1, 0, 0, minute), -4)
+        self.check(LATE + [now(61), read(1, 0, 0, 59), read(1, 0, 0, 60), read(1, 0, 0, 61)], [-4], THIRD, THIRD)
+
+    def test_a_minute_that_has_not_come(self):
+        self.check_refused(OPEN, read(1, 0, 0, 61), -4)
+        self.check_refused(LATE + [now(59)], read(1, 0, 0, 60), -4)
+        self.check_refused(LATE, read(1, 0, 0, 60), -4)
+        self.check_refused(OPEN, read(1, 0, 0, 201000), -4)
+
+    def test_zones_above_and_below_0(self):
+        self.check(OPEN + [read(1, 0, 60, 119), read(1, 0, 60, 120), read(1, 0, 60, 121)], [-4], THIRD, [-4])
+        self.check(OPEN + [read(1, 0, -60, -1), read(1, 0, -60, 0), read(1, 0, -60, 1)], [-4], THIRD, [-4])
+        self.check(OPEN + [read(1, 0, -61, -2), read(1, 0, -61, -1), read(1, 0, -61, 0)], [-4], THIRD, [-4])
+
+    def test_the_range_of_zones(self):
+        self.check(OPEN + [read(1, 0, 900, 960), read(1, 0, 900, 959), read(1, 0, 900, 961)], THIRD, [-4], [-4])
+        self.check(OPEN + [read(1, 0, -900, -840), read(1, 0, -900, -841), read(1, 0, -900, -839)], THIRD, [-4], [-4])
+        for zone in (901, -901, HUGE, -HUGE):
+            self.check_refused(OPEN, read(1, 0, zone, 60), -1)
+        self.check_refused(OPEN, read(1, 0, 901, 961), -1)
+        self.check_refused(OPEN, read(1, 0, -901, -841), -1)
+
+    def test_the_range_of_minutes(self):
+        latest = LATE + [now(200000)]
+        self.check(latest + [read(1, 0, 900, 200900), read(1, 0, 900, 200901), read(1, 0, 900, 201000)], THIRD, [-4], [-4])
+        self.check(latest + [read(1, 0, 0, 200000), read(1, 0, 0, -1000), read(1, 0, -900, -1000)], THIRD, [-4], [-4])
+        for minute in (-1001, 201001, HUGE, -HUGE):
+            for zone in (0, 900, -900):
+                self.check_refused(latest, read(1, 0, zone, minute), -1)
+
+    def test_ahead_of_the_worlds_minute_0(self):
+        before = [rules("OFFER 1"), motion(), choose()]
+        self.check(before + [read(1, 0, 0, 0), read(1, 0, 0, -1), read(1, 0, 5, 5), read(1, 0, 5, 4)],
+                   [1, 1, 1, 65, 0], [-4], [1, 1, 1, 65, 0], [-4])
+
+    def test_the_first_refusal_counts(self):
+        self.check_refused(OPEN, read(2, 9, 901, 61), -6)
+        self.check_refused(OPEN, read(2, 9, 0, 201001), -6)
+        self.check_refused(OPEN, read(2, 9, 0, 61), -6)
+        self.check_refused(OPEN, read(1, 9, 901, 61), -1)
+        self.check_refused(OPEN, read(1, -1, 0, 201001), -1)
+        self.check_refused(OPEN, read(1, 0, -901, 59), -1)
+        self.check_refused(OPEN, read(1, 9, 0, 61), -4)
+        self.check_refused(OPEN, read(1, 9, 0, 59), -4)
+        self.check_refused(OPEN, read(1, -1, 0, 61), -4)
+        self.check_refused(OPEN, read(1, -1, 0, 60), -6)
+
+    def test_it_is_read_where_it_is_seen(self):
+        for zone in (-900, -7, 0, 7, 900):
+            for minute in (28, 29, 30, 31, 58, 59, 60, 61):
+                seen = last(*THREE, now(60), see(zone, zone + minute))
+                for stage in (1, 2, 3):
+                    answer = last(*THREE, now(60), read(stage, 0, zone, zone + minute))
+                    rows = [seen[place:place + 3] for place in range(1, len(seen), 3)]
+                    self.assertEqual(answer == [-4], [2, stage, stage] not in rows)
+
+    def test_example(self):
+        before = [rules("OFFER 2\nLEVELS 1 1 3\nRELEASE 1 60"), motion(1, "A"), motion(2, "A"), motion(3, "B"),
+                  motion(4, "C"), choose(), now(60)]
+        self.check(before + [lot(1), read(1, 0, 60, 119), read(1, 0, 60, 120), read(1, 1, 60, 120), read(1, 2, 60, 120)],
+                   [4, 4, 3, 2, 4, 1], [-4], [3, 3, 1, 66, 0], [2, 2, 1, 65, 0], [-6])
