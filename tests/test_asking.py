@@ -231,5 +231,24 @@ class Asked(HouseCase):
         self.assertEqual(answered[:15], answered[15:27] + answered[12:13] + answered[27:29])
         self.assertEqual(answered[29:], ask(*before, *PROBE)[len(before):])
 
+    def test_offered_told_and_counts_behind_each_call(self):
+        # Of the motions 3 5 2 the 5 gives way to 4, and comes back with the round chosen again.
+        steps = [(SIX[0], [-6], [-6], [1, 0, 0, 0, 0])]
+        steps += [(call, [-6], [-6] if at < 4 else [1, 0, 0, 1, 69], [at + 1, 0, 0, 0, 0]) for at, call in enumerate(SIX)][1:]
+        steps += [(choose(), [3, 60, 0, 3, 3, 5, 2], [1, 0, 1, 1, 69], [6, 0, 1, 0, 0]),
+                  (appeal(1, 5), [3, 60, 0, 3, 3, 4, 2], [1, 0, 0, 1, 69], [6, 0, 1, 0, 0]),
+                  (undo(), [-6], [1, 0, 0, 1, 69], [6, 0, 0, 0, 0]),
+                  (choose(), [3, 60, 0, 3, 3, 5, 2], [1, 0, 1, 1, 69], [6, 0, 1, 0, 0]),
+                  (strike(5), [3, 60, 0, 3, 3, 5, 2], [1, 1, 1, 1, 69], [6, 1, 1, 0, 0]),
+                  (restore(5), [3, 60, 0, 3, 3, 5, 2], [1, 0, 1, 1, 69], [6, 0, 1, 0, 0]),
+                  (now(60), [3, 60, 0, 3, 3, 5, 2], [1, 0, 1, 1, 69], [6, 0, 1, 60, 0]),
+                  (order(1, 8, 1, [5, 3, 2]), [3, 60, 1, 3, 3, 5, 2], [1, 0, 1, 1, 69], [6, 0, 1, 60, 1]),
+                  (order(1, 8, 0, [5, 2, 3]), [3, 60, 1, 3, 3, 5, 2], [1, 0, 1, 1, 69], [6, 0, 1, 60, 1]),
+                  (clear(), [-6], [-6], [0, 0, 0, 0, 0])]
+        calls = [rules("OFFER 3\nRELEASE 1 60")]
+        for call, round_one, motion_five, all_counts in steps:
+            calls.append(call)
+            self.check(calls + [offered(1), told(5), counts()], round_one, motion_five, all_counts)
+
     def test_topics_are_given_as_they_were_told(self):
         self.assertEqual(last(motion(1, "QXZ"), told(1))[4:], codes("QXZ"))
